@@ -1,0 +1,1 @@
+"""Fourswaps: tables with told joint sums, joined by swaps of four cells."""
