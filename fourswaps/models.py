@@ -22,6 +22,8 @@ class Model:
         self._levels = levels
         self._lots = lots
         self._rows = all_rows(levels)
+        # Tables ask for each of their rows, and a dict answers without looking through all.
+        self._known = {row: True for row in self._rows}
 
     @property
     def text(self):
@@ -47,6 +49,10 @@ class Model:
     def rows(self):
         """The ascending tuple of all rows."""
         return self._rows
+
+    def has_row(self, value):
+        """Whether a value, whatever it is, is a row of the model."""
+        return isinstance(value, str) and value in self._known
 
     def __eq__(self, other):
         return isinstance(other, Model) and self._text == other._text

@@ -1,0 +1,43 @@
+"""The examples of the document, for the modules that are there."""
+
+import doctest
+import unittest
+
+EXAMPLES = r"""
+>>> from fourswaps.models import Model
+>>> from fourswaps.tables import Table, alike
+>>> chain, triangle = Model("columns a2 b2 c2\nlots ab bc"), Model("columns a2 b2 c2\nlots ab ac bc")
+>>> first = Table.of(chain, ("000", "101", "101", "011"))
+>>> [first.counts, first.sums, first.many, first.count("101"), len(first), alike(first, Table(chain, (("001", 1), ("011", 1), ("100", 1), ("101", 1))))]
+[(('000', 1), ('011', 1), ('101', 2)), ((('00', 1), ('01', 1), ('10', 2)), (('00', 1), ('01', 2), ('11', 1))), 4, 2, 3, True]
+
+>>> from fourswaps.swaps import keeps, neighbours, pieces, swapped, swaps
+>>> [pieces(chain, "000", "101"), pieces(chain, "000", "111"), pieces(triangle, "000", "101"), keeps(chain, "000", "101", "c"), keeps(chain, "000", "111", "c")]
+[('a', 'c'), ('abc',), ('ac',), True, False]
+>>> [swaps(first), swapped(first, "000", "101", "c").counts, len(neighbours(first))]
+[(('000', '101', 'c'),), (('001', 1), ('011', 1), ('100', 1), ('101', 1)), 1]
+
+>>> from fourswaps.webs import hole, is_acyclic, order, stay_apart
+>>> square = Model("columns a2 b2 c2 d2\nlots ab ad bc cd")
+>>> [is_acyclic(chain), is_acyclic(triangle), is_acyclic(square), hole(triangle), hole(chain), order(triangle), sorted(hole(square)[1]), order(Model("columns a2 b2\nlots ab"))]
+[True, False, False, ('group', 'abc'), None, None, ['a', 'b', 'c', 'd'], (('ab', None, ''),)]
+>>> even, odd = stay_apart(triangle, ("group", "abc"))
+>>> [even.counts, odd.count("111"), alike(even, odd), swaps(even), stay_apart(square, ("ring", "abcd"))[0].counts]
+[(('000', 1), ('011', 1), ('101', 1), ('110', 1)), 1, True, (), (('0000', 1), ('0111', 1), ('1011', 1), ('1100', 1))]
+
+>>> from fourswaps.walks import joined, joined_tables, walk
+>>> second = Table.of(chain, ("001", "100", "101", "011"))
+>>> [joined(first, second), walk(even, odd), joined(even, odd), len(joined_tables(first)), joined_tables(even) == (even,)]
+[True, None, False, 2, True]
+"""
+
+
+class Examples(unittest.TestCase):
+    def test_the_examples_hold(self):
+        examples = doctest.DocTestParser().get_doctest(EXAMPLES, {}, "examples", None, 0)
+        result = doctest.DocTestRunner().run(examples)
+        self.assertEqual((result.attempted, result.failed), (16, 0))
+
+
+if __name__ == "__main__":
+    unittest.main()

@@ -1,0 +1,61 @@
+"""The interface: names, parameters, and where each is defined."""
+
+import importlib
+import inspect
+import unittest
+
+from fourswaps.tables import Table
+
+FUNCTIONS = {
+    "tables": {"alike": "one other"},
+    "swaps": {
+        "pieces": "model first second", "keeps": "model first second columns", "swapped": "table first second columns",
+        "swaps": "table", "neighbours": "table",
+    },
+    "webs": {"is_acyclic": "model", "order": "model", "hole": "model", "stay_apart": "model hole"},
+    "walks": {"walk": "one other", "joined": "one other", "joined_tables": "table"},
+}
+CLASSES = {
+    "models": {"Model": {"__init__": "self text"}},
+    "tables": {"Table": {"__init__": "self model counts", "count": "self row"}},
+}
+PROPERTIES = {"Model": "text columns levels lots rows", "Table": "model counts sums many"}
+
+
+def parameters(function):
+    """The names of the parameters, each of which can be given by place or by name, and has no default value."""
+    told = inspect.signature(function).parameters.values()
+    assert all(one.kind == one.POSITIONAL_OR_KEYWORD and one.default is one.empty for one in told)
+    return " ".join(one.name for one in told)
+
+
+class Interface(unittest.TestCase):
+    def test_functions_are_defined_in_their_files(self):
+        for name, functions in FUNCTIONS.items():
+            module = importlib.import_module("fourswaps." + name)
+            for function, names in functions.items():
+                with self.subTest(name, function=function):
+                    told = getattr(module, function)
+                    self.assertTrue(inspect.isfunction(told))
+                    self.assertEqual((told.__module__, told.__name__), ("fourswaps." + name, function))
+                    self.assertEqual(parameters(told), names)
+
+    def test_classes_and_their_methods_are_defined_in_their_files(self):
+        for name, classes in CLASSES.items():
+            module = importlib.import_module("fourswaps." + name)
+            for made, methods in classes.items():
+                told = getattr(module, made)
+                self.assertEqual((told.__module__, told.__name__), ("fourswaps." + name, made))
+                for method, names in methods.items():
+                    with self.subTest(made, method=method):
+                        self.assertEqual(parameters(vars(told)[method]), names)
+                for one in PROPERTIES[made].split(" "):
+                    with self.subTest(made, property=one):
+                        self.assertIsInstance(vars(told)[one], property)
+        for method in ("of", "__eq__", "__len__", "__bool__"):
+            self.assertIn(method, vars(Table))
+        self.assertEqual(parameters(Table.of), "model rows")
+
+
+if __name__ == "__main__":
+    unittest.main()
