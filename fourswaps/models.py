@@ -128,9 +128,27 @@ def is_part(letters, others):
     return all([letter in others for letter in letters])
 
 
+def within(columns, others):
+    """Those of a set of columns that are among others, too."""
+    return "".join([column for column in columns if column in others])
+
+
+def without(columns, others):
+    """A set of columns without those that are among others."""
+    return "".join([column for column in columns if column not in others])
+
+
 def all_rows(levels):
     """The ascending tuple of the strings with a level for each column."""
     rows = [""]
     for many in levels:
         rows = [row + level for row in rows for level in DIGITS[:many]]
     return tuple(rows)
+
+
+def all_sets(columns):
+    """All sets of some columns, the empty one, too."""
+    sets = [""]
+    for column in columns:
+        sets = sets + [part + column for part in sets]
+    return sets

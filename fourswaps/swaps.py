@@ -29,7 +29,7 @@ def swapped(table, first, second, columns):
     check_row(model, first)
     check_row(model, second)
     check_columns(model, columns)
-    if not has_both(table, first, second) or not keeps_sums(model, first, second, columns):
+    if not has_both(table.counts, first, second) or not keeps_sums(model, first, second, columns):
         raise InvalidSwap((first, second, columns))
     return Table(model, counts_behind(model, table.counts, first, second, columns))
 
@@ -83,11 +83,12 @@ def keeps_sums(model, first, second, columns):
     return True
 
 
-def has_both(table, first, second):
-    """Whether a table has two rows, twice if they are the same."""
+def has_both(counts, first, second):
+    """Whether a table with these counts has two rows, twice if they are the same."""
+    held = dict(counts)
     if first == second:
-        return table.count(first) >= 2
-    return table.count(first) >= 1 and table.count(second) >= 1
+        return held.get(first, 0) >= 2
+    return first in held and second in held
 
 
 def exchanged(model, first, second, columns):

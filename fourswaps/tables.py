@@ -124,7 +124,12 @@ def sums_of(model, counts):
 
 def places_of(model, columns):
     """The places in a row at which some columns stand."""
-    return [at for at, column in enumerate(model.columns) if column in columns]
+    return places_in(model.columns, columns)
+
+
+def places_in(columns, part):
+    """The places among columns at which some of them stand."""
+    return [at for at, column in enumerate(columns) if column in part]
 
 
 def sums_on(places, counts):
@@ -134,3 +139,8 @@ def sums_on(places, counts):
         values = "".join([row[at] for at in places])
         found[values] = found.get(values, 0) + many
     return tuple(sorted(found.items()))
+
+
+def values_on(columns, values, part):
+    """Of values on some columns those on a part of them."""
+    return "".join([values[at] for at in places_in(columns, part)])

@@ -2,8 +2,8 @@
 
 from fourswaps.checks import check_model, is_set_of_columns
 from fourswaps.errors import InvalidHole
-from fourswaps.models import is_part
-from fourswaps.tables import Table
+from fourswaps.models import all_sets, is_part, within
+from fourswaps.tables import Table, tally
 
 LEAST_RING = 4
 LEAST_GROUP = 3
@@ -17,8 +17,12 @@ def is_acyclic(model):
 def order(model):
     """An order of a model, None if it has none."""
     check_model(model)
-    left = list(model.lots)
-    behind = []
+    return order_of(model.lots)
+
+
+def order_of(lots):
+    """An order of some lots, None if they have none."""
+    left, behind = list(lots), []
     # An order is found from its end; whichever lot can be the last is taken, no choice spoils the rest.
     while len(left) > 1:
         last = last_lot(left)
@@ -41,8 +45,7 @@ def last_lot(lots):
 
 def common_columns(lot, others):
     """The set of columns that a lot has in common with other lots together."""
-    together = "".join(others)
-    return "".join([column for column in lot if column in together])
+    return within(lot, "".join(others))
 
 
 def linked_lots(lots):
@@ -59,6 +62,11 @@ def linked_lots(lots):
 def hole(model):
     """A hole of a model, None if it has none."""
     check_model(model)
+    return find_hole(model)
+
+
+def find_hole(model):
+    """A hole of a model, None if it has none."""
     group = find_group(model)
     if group is not None:
         return ("group", group)
@@ -70,10 +78,7 @@ def hole(model):
 
 def find_group(model):
     """The columns of a group of a model, None if it has none."""
-    groups = [""]
-    for column in model.columns:
-        groups = groups + [columns + column for columns in groups]
-    for columns in groups:
+    for columns in all_sets(model.columns):
         if is_group(model, columns):
             return columns
     return None
@@ -129,7 +134,8 @@ def stay_apart(model, hole):
     check_hole(model, hole)
     word, columns = hole
     parts = parts_with_one_level(word, columns)
-    return Table.of(model, rows_apart(model, parts, 0)), Table.of(model, rows_apart(model, parts, 1))
+    even, odd = rows_apart(model, parts, 0), rows_apart(model, parts, 1)
+    return Table(model, tally(even)), Table(model, tally(odd))
 
 
 def check_hole(model, value):

@@ -29,6 +29,25 @@ EXAMPLES = r"""
 >>> second = Table.of(chain, ("001", "100", "101", "011"))
 >>> [joined(first, second), walk(even, odd), joined(even, odd), len(joined_tables(first)), joined_tables(even) == (even,)]
 [True, None, False, 2, True]
+
+>>> from fourswaps.fitting import clash, sums_without, table_with, tables_with
+>>> bare = sums_without(triangle, ("group", "abc"))
+>>> [bare, clash(triangle, bare), table_with(triangle, bare), tables_with(triangle, even.sums) == (even, odd), table_with(chain, first.sums).sums == first.sums]
+[((('01', 1), ('10', 1)), (('00', 1), ('11', 1)), (('00', 1), ('11', 1))), None, None, True, True]
+>>> clash(chain, ((("00", 1),), (("10", 1),)))
+(0, 1)
+
+>>> from fourswaps.ranges import hold_back, leaks, span, table_at
+>>> [span(first, "000"), span(first, "101"), span(first, "011"), table_at(first, "101", 1).counts, leaks(first, 3), hold_back(first, 3)]
+[(0, 1), (1, 2), (1, 1), (('001', 1), ('011', 1), ('100', 1), ('101', 1)), ('011',), ((0,), (1,))]
+
+>>> from fourswaps.parting import parted
+>>> [parted(chain, 3), parted(triangle, 3), parted(triangle, 4) == ((even.counts, odd.counts),)]
+[(), (), True]
+
+>>> from fourswaps.telling import common_sets
+>>> [common_sets(((first, second),)), common_sets(((even, odd),))]
+[('ab', 'bc'), ('ab', 'ac', 'bc')]
 """
 
 
@@ -36,7 +55,7 @@ class Examples(unittest.TestCase):
     def test_the_examples_hold(self):
         examples = doctest.DocTestParser().get_doctest(EXAMPLES, {}, "examples", None, 0)
         result = doctest.DocTestRunner().run(examples)
-        self.assertEqual((result.attempted, result.failed), (16, 0))
+        self.assertEqual((result.attempted, result.failed), (26, 0))
 
 
 if __name__ == "__main__":

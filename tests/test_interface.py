@@ -14,6 +14,14 @@ FUNCTIONS = {
     },
     "webs": {"is_acyclic": "model", "order": "model", "hole": "model", "stay_apart": "model hole"},
     "walks": {"walk": "one other", "joined": "one other", "joined_tables": "table"},
+    "fitting": {
+        "clash": "model sums", "table_with": "model sums", "tables_with": "model sums", "sums_without": "model hole",
+    },
+    "ranges": {
+        "span": "table row", "table_at": "table row count", "leaks": "table most", "hold_back": "table most",
+    },
+    "parting": {"parted": "model rows"},
+    "telling": {"common_sets": "pairs"},
 }
 CLASSES = {
     "models": {"Model": {"__init__": "self text"}},
