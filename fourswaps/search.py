@@ -107,7 +107,8 @@ def grow(blocks, needs, cells, rows, found, most):
         if not block.allows(needs):
             return
     left = open_cells(needs, cells)
-    for cell in scarcest(needs, left):
+    chosen = scarcest(needs, left)
+    for cell in chosen:
         grow(blocks, needs_behind(needs, cell), left, rows + (cell[0],), found, most)
         if len(found) > most:
             return

@@ -1,4 +1,4 @@
-"""The examples of the document, for the modules that are there."""
+"""All examples of the document, in their order."""
 
 import doctest
 import unittest
@@ -45,9 +45,20 @@ EXAMPLES = r"""
 >>> [parted(chain, 3), parted(triangle, 3), parted(triangle, 4) == ((even.counts, odd.counts),)]
 [(), (), True]
 
+>>> from fourswaps.folders import Folder
 >>> from fourswaps.telling import common_sets
->>> [common_sets(((first, second),)), common_sets(((even, odd),))]
-[('ab', 'bc'), ('ab', 'ac', 'bc')]
+>>> folder = Folder(first)
+>>> done = [folder.put("000", 2), folder.swap("000", "101", "c"), folder.take("011"), folder.undo(), folder.changes, folder.counts]
+>>> [done, common_sets(((first, second),)), common_sets(((even, odd),))]
+[[None, None, None, None, 2, (('000', 2), ('001', 1), ('011', 1), ('100', 1), ('101', 1))], ('ab', 'bc'), ('ab', 'ac', 'bc')]
+
+>>> from fourswaps.checker import accepts
+>>> from fourswaps.papers import paper_at, paper_of_none, paper_of_range, paper_of_two, paper_of_web
+>>> papers = [paper_of_web(chain), paper_of_web(triangle), paper_of_two(first, second), paper_of_two(even, odd), paper_of_none(triangle, ("group", "abc"))]
+>>> [papers[0][0][0], papers[1][0][0], papers[2][0][0], papers[3][0][0], papers[4][0][0], paper_of_range(first, "000")[0][4:], paper_at(first, "000", 2)]
+['acyclic', 'hole', 'joined', 'apart', 'no table', (0, 1), None]
+>>> [accepts(papers[0][0], papers[0][1]), accepts(papers[2][0], papers[2][1]), accepts(papers[3][0], papers[3][1]), accepts(papers[4][0], papers[4][1]), accepts(papers[1][0], None)]
+[True, True, True, True, False]
 """
 
 
@@ -55,7 +66,7 @@ class Examples(unittest.TestCase):
     def test_the_examples_hold(self):
         examples = doctest.DocTestParser().get_doctest(EXAMPLES, {}, "examples", None, 0)
         result = doctest.DocTestRunner().run(examples)
-        self.assertEqual((result.attempted, result.failed), (26, 0))
+        self.assertEqual((result.attempted, result.failed), (34, 0))
 
 
 if __name__ == "__main__":

@@ -4,6 +4,7 @@ import importlib
 import inspect
 import unittest
 
+from fourswaps.desks import Desk
 from fourswaps.tables import Table
 
 FUNCTIONS = {
@@ -22,19 +23,35 @@ FUNCTIONS = {
     },
     "parting": {"parted": "model rows"},
     "telling": {"common_sets": "pairs"},
+    "checker": {"accepts": "claim paper"},
+    "papers": {
+        "paper_of_web": "model", "paper_of_two": "one other", "paper_of_range": "table row",
+        "paper_at": "table row count", "paper_of_sums": "model sums", "paper_of_none": "model hole",
+    },
 }
 CLASSES = {
     "models": {"Model": {"__init__": "self text"}},
     "tables": {"Table": {"__init__": "self model counts", "count": "self row"}},
+    "folders": {"Folder": {
+        "__init__": "self table", "put": "self row times=1", "take": "self row times=1", "swap": "self first second columns",
+        "undo": "self", "trial": "self", "tried": "self action",
+    }},
+    "desks": {"Desk": {
+        "__init__": "self model", "remove": "self name", "claim": "self claim", "lift": "self index", "undo": "self",
+        "trial": "self", "tried": "self action",
+    }},
 }
-PROPERTIES = {"Model": "text columns levels lots rows", "Table": "model counts sums many"}
+PROPERTIES = {
+    "Model": "text columns levels lots rows", "Table": "model counts sums many", "Folder": "table counts sums many changes",
+    "Desk": "model titles claims changes",
+}
 
 
 def parameters(function):
-    """The names of the parameters, each of which can be given by place or by name, and has no default value."""
+    """The names of the parameters with their default values; each can be given by place or by name."""
     told = inspect.signature(function).parameters.values()
-    assert all(one.kind == one.POSITIONAL_OR_KEYWORD and one.default is one.empty for one in told)
-    return " ".join(one.name for one in told)
+    assert all(one.kind == one.POSITIONAL_OR_KEYWORD for one in told)
+    return " ".join(str(one) for one in told)
 
 
 class Interface(unittest.TestCase):
@@ -63,6 +80,8 @@ class Interface(unittest.TestCase):
         for method in ("of", "__eq__", "__len__", "__bool__"):
             self.assertIn(method, vars(Table))
         self.assertEqual(parameters(Table.of), "model rows")
+        for method in ("__setitem__", "__getitem__", "__contains__", "__len__", "__bool__"):
+            self.assertIn(method, vars(Desk))
 
 
 if __name__ == "__main__":
