@@ -1,11 +1,9 @@
 """Sums, of whatever source: where they do not agree, the tables that have them, and sums that no table has."""
 
 from fourswaps.checks import check_model
-from fourswaps.errors import TooMany
 from fourswaps.laying import laid_counts
-from fourswaps.limits import MOST_FREE, MOST_TABLES
 from fourswaps.models import within
-from fourswaps.search import tables_on
+from fourswaps.search import all_tables_on, check_few_rows, tables_on
 from fourswaps.sums import check_sums, total
 from fourswaps.tables import Table, places_in, sums_on, tally
 from fourswaps.webs import check_hole, order
@@ -28,7 +26,7 @@ def table_with(model, sums):
     """A table with these sums, None if there is none."""
     apart, triples = clash(model, sums), order(model)
     if triples is None:
-        check_few_rows(sums)
+        check_few_rows(total(sums[0]))
     if apart is not None:
         return None
     if triples is not None:
@@ -40,19 +38,10 @@ def table_with(model, sums):
 def tables_with(model, sums):
     """The tuple of all tables with these sums, their counts ascending."""
     apart = clash(model, sums)
-    check_few_rows(sums)
+    check_few_rows(total(sums[0]))
     if apart is not None:
         return ()
-    found = tables_on(model, model.lots, sums, MOST_TABLES)
-    if len(found) > MOST_TABLES:
-        raise TooMany(MOST_TABLES)
-    return tuple([Table(model, counts) for counts in found])
-
-
-def check_few_rows(sums):
-    """Raise TooMany for sums of more rows than tables are looked for with."""
-    if total(sums[0]) > MOST_FREE:
-        raise TooMany(MOST_FREE)
+    return tuple([Table(model, counts) for counts in all_tables_on(model, model.lots, sums)])
 
 
 def sums_without(model, hole):
@@ -82,7 +71,7 @@ def group_choices(columns, lot):
     if len(held) == len(columns) - 1:
         rest = 0 if columns[-1] in held else 1
         return [levels for levels in binary(held) if levels.count("1") % 2 == rest]
-    # Half as many rows as the other columns but one have levels.
+    # As often as makes them as many rows as a lot with all columns but one has.
     return binary(held) * len(binary(columns[len(held) + 2:]))
 
 

@@ -2,11 +2,10 @@
 
 from fourswaps.bounds import bounds
 from fourswaps.checks import check_number, check_row
-from fourswaps.errors import TooMany
 from fourswaps.laying import laid_counts
-from fourswaps.limits import MOST_COUNT, MOST_FREE, MOST_LEAK, MOST_TABLES
+from fourswaps.limits import MOST_COUNT, MOST_LEAK
 from fourswaps.models import is_part
-from fourswaps.search import tables_on
+from fourswaps.search import all_tables_on, check_few_rows
 from fourswaps.tables import Table, check_table, places_of, sums_on
 from fourswaps.webs import order, order_of
 
@@ -49,23 +48,14 @@ def leaks(table, most):
 
 def alike_counts(table):
     """The counts of all tables alike to one, if it has few rows and they are not too many."""
-    check_few_rows(table)
+    check_few_rows(table.many)
     return all_counts(table, table.model.lots)
-
-
-def check_few_rows(table):
-    """Raise TooMany for a table of more rows than alike ones are looked for with."""
-    if table.many > MOST_FREE:
-        raise TooMany(MOST_FREE)
 
 
 def all_counts(table, lots):
     """The counts of all tables with the same sums as one on some lots, which have all columns."""
     sums = [sums_on(places_of(table.model, lot), table.counts) for lot in lots]
-    found = tables_on(table.model, lots, sums, MOST_TABLES)
-    if len(found) > MOST_TABLES:
-        raise TooMany(MOST_TABLES)
-    return found
+    return all_tables_on(table.model, lots, sums)
 
 
 def fixed_by(table, triples, most, known):
@@ -119,7 +109,7 @@ def sets_by_length(many):
 def searched_counts(table, sets):
     """The counts of all tables with the same sums, for each of some sets of lots, those with fewer lots first."""
     if sets:
-        check_few_rows(table)
+        check_few_rows(table.many)
     found = {}
     for lots in sets:
         found[lots] = counts_on(table, lots, found)

@@ -4,6 +4,8 @@ The sums are needs: how often the rows are to have these values on this lot. A c
 needs that it meets.
 """
 
+from fourswaps.errors import TooMany
+from fourswaps.limits import MOST_FREE, MOST_TABLES
 from fourswaps.models import all_sets, is_part, within, without
 from fourswaps.swaps import parts_of
 from fourswaps.tables import tally, values_on
@@ -37,6 +39,20 @@ class Block:
             if self.can_meet(needs):
                 return True
         return False
+
+
+def check_few_rows(many):
+    """Raise TooMany for more rows than tables are looked for with."""
+    if many > MOST_FREE:
+        raise TooMany(MOST_FREE)
+
+
+def all_tables_on(model, lots, sums):
+    """The counts, ascending, of all tables of a model with these sums, which agree, on these lots, if they are few."""
+    found = tables_on(model, lots, sums, MOST_TABLES)
+    if len(found) > MOST_TABLES:
+        raise TooMany(MOST_TABLES)
+    return found
 
 
 def tables_on(model, lots, sums, most):

@@ -172,6 +172,18 @@ class Webs(unittest.TestCase):
                     accepted += self.check(("acyclic", text), paper)
             self.assertEqual(accepted > 0, own_look.has_order(text))
 
+    def test_a_lot_twice_in_the_place_of_another_one(self):
+        for text in own_look.ACYCLIC:
+            triples = own_search.an_order(text)
+            for at, place in itertools.permutations(range(len(triples)), 2):
+                lot = triples[place][0]
+                ahead = "".join(triple[0] for triple in triples[:at])
+                separator = "".join(column for column in lot if column in ahead)
+                for parent in range(-1, len(triples)):
+                    paper = triples[:at] + ((lot, parent, separator),) + triples[at + 1:]
+                    self.assertFalse(self.check(("acyclic", text), paper))
+        self.assertFalse(self.check(("acyclic", own_look.CHAIN), (("ab", None, ""), ("ab", 0, "ab"))))
+
     def test_all_holes(self):
         for text in own_look.ACYCLIC + own_look.OTHERS + (own_look.WIDE_RING, TWINS):
             columns = own_look.heads(text)[0][:5]
@@ -197,6 +209,10 @@ class Tables(unittest.TestCase):
             ((swap, ("101", "101", "a")), False),
         ):
             self.assertIs(self.check(("joined", text, one, other), steps), right)
+        # There and back again, but by swaps that do not keep the sums.
+        one = (("000", 1), ("111", 1))
+        self.assertFalse(self.check(("joined", text, one, one), (("000", "111", "c"), ("001", "110", "c"))))
+        self.assertTrue(self.check(("joined", text, one, one), (("000", "111", "abc"), ("000", "111", ""))))
         self.assertTrue(self.check(("joined", text, one, one), ()))
         self.assertTrue(self.check(("joined", text, (), ()), ()))
         self.assertFalse(self.check(("joined", text, (), one), ()))

@@ -327,6 +327,18 @@ class Errors(unittest.TestCase):
         for value in values:
             self.check(InvalidClaim, value, lambda: self.desk.claim(value), lambda: self.desk.claim(claim=value))
 
+    def test_objects_that_are_equal_to_all(self):
+        class Any:
+            def __eq__(self, other):
+                return True
+
+        for claim in ((Any(), "a", "b"), (Any(), "a", "000", 0), ("kept", "a", Any()), ("at least", "a", Any(), 0), Any()):
+            self.check(InvalidClaim, claim, lambda: self.desk.claim(claim))
+        thing = Any()
+        self.check(UnknownName, thing, lambda: self.desk.claim(("alike", thing, "b")), lambda: self.desk[thing])
+        self.check(InvalidName, thing, lambda: self.put(thing, Table(MODEL, ())))
+        self.check(InvalidIndex, thing, lambda: self.desk.lift(thing))
+
     def test_claims_ahead_of_names(self):
         for name in ("none", None, 5, ["a"], ("a",)):
             for value in (("kept", name, 0), ("kept", name, True), ("at least", name, "2", 1), ("at least", name, "000", -1),

@@ -176,6 +176,22 @@ class TableWith(unittest.TestCase):
                 self.assertEqual(tables_with(Model(model), told), ())
             self.assertIsNotNone(self.check(text, (even, even, even) + rest))
 
+    def test_few_tables_among_very_many_ways(self):
+        # What the triangle lets is looked at by itself, or the columns beside it would be gone through again and again.
+        few = ((("00", 2), ("01", 4), ("10", 4), ("11", 2)), (("00", 1), ("01", 5), ("10", 5), ("11", 1)),
+               (("00", 3), ("01", 3), ("10", 3), ("11", 3)))
+        rest = ((("0", 5), ("1", 7)), (("0", 4), ("1", 1), ("2", 4), ("3", 3)), (("0", 2), ("1", 4), ("2", 4), ("3", 2)))
+        text = "columns a2 b2 c2 d2 e4 f4\nlots ab ac bc d e f"
+        self.assertIsNotNone(self.check(text, few + rest))
+        self.assertRaises(TooMany, tables_with, Model(text), few + rest)
+        none = ((("00", 3), ("01", 2), ("10", 4), ("11", 3)), (("00", 4), ("01", 1), ("11", 7)),
+                (("00", 1), ("01", 6), ("10", 3), ("11", 2)))
+        self.assertEqual(own_search.found(own_look.TRIANGLE, none), set())
+        text = "columns a2 b2 c2 d4 e4\nlots ab ac bc d e"
+        told = none + ((("0", 1), ("1", 5), ("2", 2), ("3", 4)), (("0", 4), ("1", 3), ("2", 3), ("3", 2)))
+        self.assertIsNone(self.check(text, told))
+        self.assertEqual(tables_with(Model(text), told), ())
+
     def test_sums_of_no_rows_have_the_empty_table(self):
         for text in own_look.ACYCLIC + own_look.OTHERS + (TWINS, BESIDE, own_look.WIDE_RING):
             told = ((),) * len(own_look.heads(text)[2])

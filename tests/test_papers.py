@@ -22,6 +22,8 @@ MANY_HOLES = own_look.OTHERS + (
     "columns a2 b2 c2 d2 e2\nlots abcd abce abde acde bcde", "columns a2 b2 c3 d2 e2 f2\nlots abcde abcdf abcef abdef acdef bcdef",
     "columns a2 b2 c3 d2 e2 f2\nlots abc abd acd bcd def", "columns a4 b2 c2 d2 e2 f2\nlots ab ad bc cd de f",
     "columns a3 b3 c3 d3\nlots abc abd acd bcd", "columns a3 b4 c2 d3\nlots ab ac bc bd cd", "columns a2 b3 c2 d2 e2\nlots abe acd bcd",
+    # Here the first lot has the last column of the group alone.
+    "columns a2 b2 c2 d2 e2\nlots ae bcd bce bde cde", "columns a3 b2 c2 d2 e3\nlots ae bcd bce bde cde",
 )
 
 
