@@ -40,9 +40,8 @@ class Trial:
 
     def shut(self):
         """Goes back to the rows around those that end, which may be of the same trial."""
-        older = self.older
-        self.kept = older.kept
-        self.older = older.older
+        self.kept = self.older.kept
+        self.older = self.older.older
 
 
 class Older:

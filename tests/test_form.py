@@ -48,6 +48,20 @@ def bound_within(node):
     return names | {one.id for one in ast.walk(node) if isinstance(one, ast.Name) and isinstance(one.ctx, ast.Store)}
 
 
+def rows_at_the_end(tree):
+    """The rows, docstrings left out, of each `__exit__` of a file and of the method `shut` of its class, together."""
+    told = []
+    for made in ast.walk(tree):
+        if isinstance(made, ast.ClassDef):
+            methods = {node.name: node for node in functions(made)}
+            if "__exit__" in methods:
+                ends = [methods[name] for name in ("__exit__", "shut") if name in methods]
+                told.append([
+                    row for node in ends for row in ast.walk(node) if isinstance(row, ast.stmt)
+                    and row is not node and not (row is node.body[0] and ast.get_docstring(node))])
+    return told
+
+
 class Form(unittest.TestCase):
     def test_the_folder_holds_files_of_the_program_only(self):
         names = {path.name for path in FOLDER.iterdir()} - {"__pycache__"}
@@ -137,6 +151,23 @@ class Form(unittest.TestCase):
             for node in ast.walk(tree):
                 if isinstance(node, ast.Call) and isinstance(node.func, ast.Attribute):
                     self.assertIn(node.func.attr, own.union(METHODS), name)
+
+    def test_rows_of_trials_that_end(self):
+        told = [rows for tree in trees().values() for rows in rows_at_the_end(tree)]
+        self.assertEqual(len(told), 1)
+        for rows in told:
+            kept = [row for row in rows if isinstance(row, ast.Assign) and isinstance(row.targets[0], ast.Name)]
+            self.assertLessEqual(len(kept), 1, [ast.unparse(row) for row in kept])
+            for row in rows:
+                with self.subTest(row=ast.unparse(row)):
+                    self.assertIsInstance(row, (ast.Assign, ast.If, ast.Expr))
+                    if isinstance(row, ast.Assign):
+                        self.assertEqual(len(row.targets), 1)
+                        self.assertIsInstance(row.value, ast.Attribute)
+                    if isinstance(row, ast.If):
+                        self.assertEqual(ast.unparse(row.test), "kind is not None")
+                    if isinstance(row, ast.Expr):
+                        self.assertEqual(ast.unparse(row), "self.shut()")
 
     def test_sets_stand_in_sorted_and_len_alone(self):
         for name, tree in trees().items():
